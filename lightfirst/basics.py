@@ -1,5 +1,7 @@
 """What the other files judge things by: integers, numbers within limits, lots."""
 
+from lightfirst.errors import NoNumber
+
 
 def is_integer(thing):
     """Whether a thing is an int; a flag is none."""
@@ -9,6 +11,12 @@ def is_integer(thing):
 def is_within(least, most, thing):
     """Whether a thing is an integer from least to most."""
     return is_integer(thing) and least <= thing <= most
+
+
+def check_within(least, most, thing):
+    """Raises what is raised for what is no integer from least to most."""
+    if not is_within(least, most, thing):
+        raise NoNumber()
 
 
 def is_lot(many, thing):

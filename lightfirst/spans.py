@@ -151,6 +151,13 @@ def nought_of(prime, sums):
     return None
 
 
+def ladder_of(prime, width, sums):
+    """What ladder tells, of sums of any width and number; here some may be 0 everywhere."""
+    rows = sorted(rows_of(prime, width, sums), key=lambda step: step[0])
+    # By ascending places each row has 0 at the places of those ahead; those behind it are still to be taken off.
+    return tuple([tuple(reduced(prime, rows[at + 1:], row[1])) for at, row in enumerate(rows)])
+
+
 def added(prime, width, sums, times):
     """The tuple that sums of this width make, each so many times."""
     total = [0] * width
@@ -190,9 +197,7 @@ def are_alone(prime, sums):
 def ladder(prime, sums):
     """The sums, in the one form with steps, that make just what these make."""
     check_sums(prime, sums)
-    rows = sorted(rows_of(prime, width_of(sums), sums), key=lambda step: step[0])
-    # By ascending places each row has 0 at the places of those ahead; those behind it are still to be taken off.
-    return tuple([tuple(reduced(prime, rows[at + 1:], row[1])) for at, row in enumerate(rows)])
+    return ladder_of(prime, width_of(sums), sums)
 
 
 def alike(prime, sums, others):

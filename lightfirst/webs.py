@@ -3,7 +3,7 @@
 from math import comb
 
 from lightfirst.basics import is_lot, is_within
-from lightfirst.errors import BadWeb, NoLot, NoVersion, TooMany
+from lightfirst.errors import BadWeb, NoKeeping, NoLot, NoVersion, TooMany
 from lightfirst.spans import added, is_prime, is_sum, new_row, reduced, rows_of, way_of
 
 MOST_VERSIONS = 10
@@ -64,6 +64,21 @@ def check_reading(web, lot, version):
         raise NoVersion()
 
 
+def every_piece(web):
+    """The lot of all pieces."""
+    return tuple(range(len(web.pieces)))
+
+
+def has_all(lot, pieces):
+    """Whether all of these pieces stand in the lot."""
+    return all([piece in lot for piece in pieces])
+
+
+def size_at(web, piece):
+    """The size of a piece."""
+    return web.pieces[piece][1]
+
+
 def sum_of(web, piece):
     """The sum of a piece."""
     return web.pieces[piece][0]
@@ -100,7 +115,7 @@ def rank_of(web, lot):
 def size_of(web, lot):
     """The sizes of the lot's pieces, added."""
     check_lot(web, lot)
-    return sum([web.pieces[piece][1] for piece in lot])
+    return sum([size_at(web, piece) for piece in lot])
 
 
 def can_read(web, lot):
@@ -120,6 +135,12 @@ def unread(web, lot):
 def is_keeping(web, thing):
     """Whether a thing is a lot by which all versions can be read."""
     return is_lot_of(web, thing) and len(taken(web, thing)) == web.many
+
+
+def check_keeping(web, thing):
+    """Raises what is raised where a keeping is wanted."""
+    if not is_keeping(web, thing):
+        raise NoKeeping()
 
 
 def reading(web, lot, version):

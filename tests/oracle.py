@@ -1,7 +1,9 @@
 """The words of the document reckoned by going through everything, and things that are passed wrongly."""
 
 from functools import lru_cache
+from heapq import heappop, heappush
 from itertools import combinations, product
+from random import Random
 
 from lightfirst.errors import KeepError, NoLot
 from lightfirst.webs import Web
@@ -129,3 +131,88 @@ def junk():
 def no_integers():
     """Things that are no integers."""
     return [thing for thing in junk() if not isinstance(thing, int) or isinstance(thing, bool)]
+
+
+def size(web, lot):
+    """The sizes of a lot, added."""
+    return sum(web.pieces[k][1] for k in lot)
+
+
+def lots(web):
+    """All lots of a web, fewest first."""
+    return subsets(tuple(range(len(web.pieces))))
+
+
+def keepings(web):
+    """All keepings of a web, fewest first."""
+    return [lot for lot in lots(web) if is_keeping(web, lot)]
+
+
+def by_order(web, pieces):
+    """The pieces by size, those of one size by number."""
+    return tuple(sorted(pieces, key=lambda k: (web.pieces[k][1], k)))
+
+
+def greedy(web, pieces, begun=()):
+    """The lot of what is begun with, and of those pieces, by their order, that are not made of what is taken."""
+    found = begun
+    for k in by_order(web, pieces):
+        if k not in found and web.pieces[k][0] not in span(web.prime, web.many, sums_of(web, found)):
+            found += (k,)
+    return tuple(sorted(found))
+
+
+def toggled(lot, piece):
+    """The lot without a piece of it, or with one more."""
+    return tuple(sorted(set(lot) ^ {piece}))
+
+
+def rooms_from(web, start, some, stay):
+    """The dict from all keepings that can be come to, of some with all of stay, to the least room that it takes.
+
+    Found by a search over all keepings, one piece written or dropped at a time.
+    """
+    found = {}
+    queue = [(size(web, start), start)]
+    while queue:
+        room, lot = heappop(queue)
+        if lot in found:
+            continue
+        found[lot] = room
+        for piece in some:
+            after = toggled(lot, piece)
+            if after not in found and set(stay) <= set(after) and is_keeping(web, after):
+                heappush(queue, (max(room, size(web, after)), after))
+    return found
+
+
+def random_web(chance, prime, many, pieces, sizes):
+    """A web of so many pieces that is itself a keeping, with sizes out of these."""
+    while True:
+        web = Web(prime, many, tuple((chance.choice(all_sums(prime, many)), chance.choice(sizes))
+                                     for _ in range(pieces)))
+        if is_keeping(web, tuple(range(pieces))):
+            return web
+
+
+def random_webs(seed, many_webs):
+    """Small webs with sizes of which many are equal, the same ones for the same seed."""
+    chance = Random(seed)
+    shapes = [(2, 1, 4), (2, 2, 5), (3, 2, 5), (2, 3, 6), (3, 2, 6), (2, 3, 7), (5, 2, 5)]
+    return [random_web(chance, *shapes[k % len(shapes)], (1, 2, 3, 5, 8)) for k in range(many_webs)]
+
+
+def powers_web(prime, many, pieces, sizes):
+    """A web of which each many pieces are a lean keeping; sizes are told by a function of their numbers."""
+    return Web(prime, many, tuple((tuple(a ** k % prime for k in range(many)), sizes(a)) for a in range(pieces)))
+
+
+def no_keepings():
+    """Things that are no keeping of a web of the pieces 0 to 2, for which all three are wanted."""
+    return junk() + [0, (), (0,), (0, 1), (1, 2), (3,), (0, 1, 2, 3), (1, 0, 2), [0, 1, 2], (0, 1, 1, 2),
+                     (False, 1, 2), (0, True, 2), tuple(range(19999))]
+
+
+def many_things():
+    """Things that are no numbers."""
+    return no_integers() + [-1, -10 ** 60 + 1]

@@ -14,8 +14,41 @@ FUNCTIONS = {
     "webs": {"rank_of": 2, "size_of": 2, "can_read": 2, "unread": 2, "lean": 2, "needless": 2, "is_keeping": 2,
              "is_reading": 4, "is_lean": 2, "reading": 3, "lean_keepings": 1},
     "rings": {"is_ring": 2, "ring": 3, "ring_values": 2, "all_rings": 1},
+    "lightest": {"lightest": 2, "least_size": 2, "is_lightest": 3, "is_light_paper": 4, "light_paper": 3, "put_in": 3,
+                 "put_all": 3},
+    "plans": {"moments": 3, "harm": 3, "room_of": 3, "end_of": 3, "is_plan": 4, "turned_back": 1, "idle_pairs": 3,
+              "leaned": 3},
+    "room": {"least_of": 3, "least_staying": 5, "pressures": 3, "least_room": 3, "least_room_by": 5, "plan_for": 3,
+             "plan_by": 5, "plan_within": 4, "bar": 4, "bar_by": 6, "is_bar": 5, "is_bar_by": 7},
+    "losses": {"plane": 2, "is_plane": 3, "is_harm": 3, "is_safe": 3, "safety": 2, "harms": 2, "harm_of": 3,
+               "lightest_safe": 2, "room_to_mend": 4, "powers": 4},
 }
 METHODS = {"webs": {"Web": ("__init__", "__eq__")}}
+
+# Arguments that are right, behind the web where a function takes one.
+SUMS = ((1, 0), (0, 1))
+PLAN = (("write", 2), ("drop", 0))
+RIGHT = {
+    "rank": (5, SUMS), "made_of": (5, SUMS, (1, 1)), "nought": (5, SUMS), "ladder": (5, SUMS),
+    "is_made": (5, SUMS, (1, 1), (1, 1)), "are_alone": (5, SUMS), "alike": (5, SUMS, SUMS),
+    "is_reading": ((0, 1), 0, ((0, 1),)), "reading": ((0, 1), 0), "ring": ((0, 1), 2), "ring_values": ((0, 1, 2),),
+    "is_ring": ((0, 1, 2),), "lean_keepings": (), "all_rings": (),
+    "is_lightest": ((0, 1, 2), (0, 2)), "light_paper": ((0, 1, 2), (0, 2)), "put_in": ((0, 1), 2),
+    "is_light_paper": ((0, 1, 2), (0, 2), {1: (0, 1, 2)}), "put_all": ((0, 1), (2,)),
+    "moments": ((0, 1), PLAN), "harm": ((0, 1), PLAN), "room_of": ((0, 1), PLAN), "end_of": ((0, 1), PLAN),
+    "is_plan": ((0, 1), (1, 2), PLAN), "turned_back": (PLAN,), "idle_pairs": ((0, 1), PLAN), "leaned": ((0, 1), PLAN),
+    "least_of": ((0, 1), 5), "least_staying": ((0, 1), 5, (0, 1, 2), (1,)), "pressures": ((0, 2), (1, 2)),
+    "least_room": ((0, 2), (1, 2)), "least_room_by": ((0, 2), (1, 2), (0, 1, 2), (2,)), "plan_for": ((0, 2), (1, 2)),
+    "plan_by": ((0, 2), (1, 2), (0, 1, 2), (2,)), "plan_within": ((0, 2), (1, 2), 23), "bar": ((0, 2), (1, 2), 22),
+    "bar_by": ((0, 2), (1, 2), (0, 1, 2), (2,), 22), "is_bar": ((0, 2), (1, 2), 22, ("from", 10, (0, 2))),
+    "is_bar_by": ((0, 2), (1, 2), (0, 1, 2), (2,), 22, ("from", 10, (0, 2))),
+    "is_plane": ((0,), (0, 3)), "is_harm": ((0, 1, 2), (0, 1)), "is_safe": ((0, 1, 2), 1),
+    "harm_of": ((0, 1, 2), (1, 1)), "lightest_safe": (1,), "room_to_mend": ((0, 1, 2), (1,), (0, 1)),
+    "powers": (5, 2, 4, 9), "plane": ((0,),), "safety": ((0, 1, 2),), "harms": ((0, 1, 2),),
+}
+TAKE_NO_WEB = ("turned_back", "powers")
+# What these judge last is a number, for which an error is named.
+RAISE_FOR_THEIR_LAST = ("is_safe",)
 
 
 class Interface(unittest.TestCase):
@@ -73,18 +106,14 @@ class Judging(unittest.TestCase):
     def calls(self):
         """All calls, each with arguments that are right, and the first place where anything may be passed."""
         web = Web(5, 2, (((1, 0), 10), ((0, 1), 10), ((1, 4), 3)))
-        sums = ((1, 0), (0, 1))
-        right = {
-            "rank": (5, sums), "made_of": (5, sums, (1, 1)), "nought": (5, sums), "ladder": (5, sums),
-            "is_made": (5, sums, (1, 1), (1, 1)), "are_alone": (5, sums), "alike": (5, sums, sums),
-            "is_reading": (web, (0, 1), 0, ((0, 1),)), "reading": (web, (0, 1), 0), "ring": (web, (0, 1), 2),
-            "ring_values": (web, (0, 1, 2)), "is_ring": (web, (0, 1, 2)),
-        }
         for name, functions in FUNCTIONS.items():
             module = importlib.import_module("lightfirst." + name)
             for told, many in functions.items():
-                if told not in ("lean_keepings", "all_rings"):
-                    yield getattr(module, told), right.get(told, (web, (0, 1))), 0 if name == "spans" else 1
+                right = RIGHT.get(told, ((0, 1),))
+                if name != "spans" and told not in TAKE_NO_WEB:
+                    right = (web,) + right
+                self.assertEqual(len(right), many, told)
+                yield getattr(module, told), right, many - len(RIGHT.get(told, ((0, 1),)))
         yield Web, (5, 2, (((1, 0), 10),)), 0
 
     def greatest_things(self):
@@ -112,7 +141,7 @@ class Judging(unittest.TestCase):
 
     def test_judges_raise_nothing_for_their_last_argument(self):
         for call, right, _ in self.calls():
-            if call.__name__.startswith("is_"):
+            if call.__name__.startswith("is_") and call.__name__ not in RAISE_FOR_THEIR_LAST:
                 self.assertIs(call(*right), True)
                 for thing in oracle.junk() + self.greatest_things():
                     self.assertIs(call(*right[:-1], thing), False)
@@ -122,6 +151,15 @@ class Judging(unittest.TestCase):
             self.assertEqual(call(*right), call(*right))
         web = next(right[0] for call, right, _ in self.calls() if call.__name__ == "reading")
         self.assertEqual(web, Web(5, 2, (((1, 0), 10), ((0, 1), 10), ((1, 4), 3))))
+
+    def test_lists_and_dicts_that_are_returned_are_new(self):
+        for call, right, _ in self.calls():
+            found = call(*right)
+            if isinstance(found, (list, dict)):
+                again = call(*right)
+                found.clear()
+                self.assertEqual(call(*right), again)
+                self.assertIsNot(call(*right), again)
 
 
 if __name__ == "__main__":

@@ -124,10 +124,14 @@ class Language(unittest.TestCase):
         stored = {node.attr for _, tree in trees() for node in ast.walk(tree)
                   if isinstance(node, ast.Attribute) and isinstance(node.ctx, ast.Store)}
         self.assertEqual(stored & (METHODS | NEVER | {"args", "encode", "decode", "hex", "format", "sort"}), set())
+        own = {item.name for _, tree in trees() for node in ast.walk(tree) if isinstance(node, ast.ClassDef)
+               for item in node.body if isinstance(item, ast.FunctionDef)}
+        self.assertEqual(stored & own, set())
+        self.assertEqual(own & (METHODS | NEVER), own & {"copy"})
         for path, tree in trees():
             for node in ast.walk(tree):
                 if isinstance(node, ast.Attribute) and isinstance(node.ctx, ast.Load):
-                    self.assertIn(node.attr, stored | METHODS, path)
+                    self.assertIn(node.attr, stored | METHODS | own, path)
 
     def test_words(self):
         for path, tree in trees():
