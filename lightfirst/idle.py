@@ -16,8 +16,6 @@ def lot_of(mask):
 
 def needed(web, lot):
     """The number whose bits are the pieces without which a lot is no keeping, None if it is none with them."""
-    if len(lot) == 0:
-        return None
     columns = [[sum_of(web, piece)[version] for piece in lot] for version in range(web.many)]
     rows = ladder_of(web.prime, len(lot), columns)
     if len(rows) < web.many:

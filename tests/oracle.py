@@ -5,6 +5,7 @@ from heapq import heappop, heappush
 from itertools import combinations, product
 from random import Random
 
+from lightfirst.disk import Disk
 from lightfirst.errors import KeepError, NoLot
 from lightfirst.webs import Web
 
@@ -123,9 +124,10 @@ def junk():
         chain = {0: chain}
     return [None, True, False, "", "0", "(0, 1)", b"", b"\x00\x01", bytearray(b"\x00"), memoryview(b"\x00"), [], [0],
             [0, 1], [(0, 1)], {}, {0: 1}, {"a": (1,)}, range(1), range(2), slice(0, 1), Ellipsis, NotImplemented,
-            object(), int, tuple, a_function, len, iter(()), (k for k in ()), Web, KeepError, NoLot(), web,
+            object(), int, tuple, a_function, len, iter(()), (k for k in ()), Web, KeepError, NoLot(), web, Disk(1),
             deep(list, 40), deep(tuple, 40), chain, (True,), (0, True), (False, 1), ("0",), (None,), ([0],), ((),),
-            ((), ()), ({},), (web,), (0, web), (-1,), (-1, 0), (10 ** 60 - 1,), (0, "1"), (b"0",), [0] * 19999]
+            ((), ()), ({},), (web,), (0, web), (Disk(1),), (-1,), (-1, 0), (10 ** 60 - 1,), (0, "1"), (b"0",),
+            [0] * 19999]
 
 
 def no_integers():

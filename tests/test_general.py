@@ -4,8 +4,12 @@ import importlib
 import inspect
 import unittest
 
+from lightfirst import laid
 from lightfirst.basics import is_integer, is_lot, is_within
+from lightfirst.contents import web_of
+from lightfirst.disk import Disk
 from lightfirst.errors import KeepError, NoKeeping
+from lightfirst.store import Store
 from lightfirst.webs import Web
 from tests import oracle
 
@@ -22,8 +26,18 @@ FUNCTIONS = {
              "plan_by": 5, "plan_within": 4, "bar": 4, "bar_by": 6, "is_bar": 5, "is_bar_by": 7},
     "losses": {"plane": 2, "is_plane": 3, "is_harm": 3, "is_safe": 3, "safety": 2, "harms": 2, "harm_of": 3,
                "lightest_safe": 2, "room_to_mend": 4, "powers": 4},
+    "contents": {"content": 3, "parts": 2, "contents": 3, "row_of": 3, "read_row": 3, "web_of": 3, "fits": 2,
+                 "agree": 2, "is_spoilt": 3, "spoilt": 2},
+    "laid": {"whole": 3, "half": 3, "cells_with": 2, "lying_contents": 3, "meaning": 3, "laid": 4},
 }
-METHODS = {"webs": {"Web": ("__init__", "__eq__")}}
+# The classes, with how many arguments each of their methods takes beside the object.
+METHODS = {
+    "webs": {"Web": {"__init__": 3, "__eq__": 1}},
+    "disk": {"Disk": {"__init__": 1, "write": 2, "reach": 1, "calm": 0, "power": 1, "cut": 0, "read": 1, "lying": 1,
+                      "many_cells": 0, "used": 0, "reached": 0, "waiting": 0, "copy": 0}},
+    "store": {"Store": {"__init__": 3, "whole": 0, "room": 0, "left": 0, "row": 1, "rows": 0, "turn": 1, "run": 0,
+                        "step": 0, "goal": 0, "disk": 0}},
+}
 
 # Arguments that are right, behind the web where a function takes one.
 SUMS = ((1, 0), (0, 1))
@@ -44,9 +58,13 @@ RIGHT = {
     "is_bar_by": ((0, 2), (1, 2), (0, 1, 2), (2,), 22, ("from", 10, (0, 2))),
     "is_plane": ((0,), (0, 3)), "is_harm": ((0, 1, 2), (0, 1)), "is_safe": ((0, 1, 2), 1),
     "harm_of": ((0, 1, 2), (1, 1)), "lightest_safe": (1,), "room_to_mend": ((0, 1, 2), (1,), (0, 1)),
+    "content": (((1, 2), (1, 3)), 0), "parts": ((0, 1),), "contents": (((1, 2), (1, 3)), (0, 1)),
+    "row_of": (2, (1, 6)), "read_row": ({0: (1, 2)}, 0), "web_of": (5, ((1, 2), (1, 3)), SUMS),
+    "fits": (((1, 2), (1, 3)),), "agree": ({0: (1, 2)},), "spoilt": ({0: (1, 2), 1: (1, 3), 2: (0, 2)},),
+    "is_spoilt": ({0: (1, 2), 1: (1, 3), 2: (0, 2)}, ((0, 1, 2), 1)),
     "powers": (5, 2, 4, 9), "plane": ((0,),), "safety": ((0, 1, 2),), "harms": ((0, 1, 2),),
 }
-TAKE_NO_WEB = ("turned_back", "powers")
+TAKE_NO_WEB = ("turned_back", "powers", "web_of")
 # What these judge last is a number, for which an error is named.
 RAISE_FOR_THEIR_LAST = ("is_safe",)
 
@@ -72,11 +90,9 @@ class Interface(unittest.TestCase):
             for told, methods in classes.items():
                 found = getattr(module, told)
                 self.assertEqual(found.__module__, "lightfirst." + name)
-                for method in methods:
+                for method, many in methods.items():
                     self.assertIn(method, vars(found))
-
-    def test_arguments_of_web(self):
-        self.assertEqual(len(inspect.signature(Web).parameters), 3)
+                    self.assertEqual(len(inspect.signature(vars(found)[method]).parameters), many + 1)
 
 
 class Words(unittest.TestCase):
@@ -109,12 +125,36 @@ class Judging(unittest.TestCase):
         for name, functions in FUNCTIONS.items():
             module = importlib.import_module("lightfirst." + name)
             for told, many in functions.items():
+                if name == "laid":
+                    continue
                 right = RIGHT.get(told, ((0, 1),))
                 if name != "spans" and told not in TAKE_NO_WEB:
                     right = (web,) + right
                 self.assertEqual(len(right), many, told)
                 yield getattr(module, told), right, many - len(RIGHT.get(told, ((0, 1),)))
         yield Web, (5, 2, (((1, 0), 10),)), 0
+
+    def calls_with_disks(self):
+        """Those that take a disk at a place where no error is named for it."""
+        web = web_of(5, ((1, 2), (1, 3)), ((1, 0), (0, 1), (4, 1)))
+        disk = laid.laid(web, ((1, 2), (1, 3)), (0, 2), 8)
+        for call in (laid.whole, laid.half, laid.lying_contents, laid.meaning):
+            yield lambda width, call=call: call(web, width, disk), (2,), 0
+        yield lambda piece: laid.cells_with(disk, piece), (0,), 0
+        yield laid.laid, (web, ((1, 2), (1, 3)), (0, 2), 8), 1
+        yield lambda width: Store(web, width, disk), (2,), 0
+        for store in self.stores():
+            yield store.row, (0,), 0
+            yield store.turn, ((0, 2),), 0
+        yield Disk, (8,), 0
+        for call, told in ((disk.read, (7,)), (disk.lying, (7,)), (disk.power, (None,)), (disk.write, (7, (1, 2, 3))),
+                           (disk.reach, (7,)), (disk.write, (7, ()))):
+            yield call, told, 0
+
+    def stores(self):
+        """A store that was opened."""
+        web = web_of(5, ((1, 2), (1, 3)), ((1, 0), (0, 1), (4, 1)))
+        yield Store(web, 2, laid.laid(web, ((1, 2), (1, 3)), (0, 2), 8))
 
     def greatest_things(self):
         """Things as deep and as great as may be passed, by themselves and at places within tuples."""
@@ -124,8 +164,8 @@ class Judging(unittest.TestCase):
         return deep + great + [(thing,) for thing in deep] + [(thing, 1) for thing in deep] + [((deep[1][0], 1),)]
 
     def test_no_other_error(self):
-        things = oracle.junk() + self.greatest_things() + [NoKeeping()]
-        for call, right, first in self.calls():
+        things = oracle.junk() + self.greatest_things() + [NoKeeping(), next(self.stores())]
+        for call, right, first in list(self.calls()) + list(self.calls_with_disks()):
             call(*right)
             for at in range(first, len(right)):
                 for thing in things:

@@ -164,6 +164,10 @@ class WrongThings(unittest.TestCase):
             self.assertRaises(NoKeeping, least_size, LEAN, thing)
             self.assertRaises(NoKeeping, is_lightest, LEAN, thing, None)
             self.assertRaises(NoKeeping, light_paper, LEAN, thing, None)
+            self.assertRaises(NoKeeping, light_paper, LEAN, thing, (0, 1, 2))
+            self.assertRaises(NoKeeping, is_light_paper, LEAN, thing, (0, 1, 2), {})
+            self.assertRaises(NoKeeping, is_lightest, LEAN, thing, (0, 1, 2))
+            self.assertRaises(NoKeeping, put_all, LEAN, thing, ())
             self.assertRaises(NoKeeping, light_paper, LEAN, (0, 1, 2), thing)
             self.assertRaises(NoKeeping, is_light_paper, LEAN, thing, None, None)
             self.assertRaises(NoKeeping, is_light_paper, LEAN, (0, 1, 2), thing, {})
@@ -181,7 +185,8 @@ class WrongThings(unittest.TestCase):
     def test_no_piece(self):
         for thing in oracle.no_integers() + [-1, 3, 0, 2, 10 ** 59, (1,)]:
             self.assertRaises(NoPiece, put_in, EXAMPLE, (0, 2), thing)
-        self.assertRaises(NoPiece, put_in, EXAMPLE, (0, 1, 2), 2)
+        for piece in (0, 1, 2):
+            self.assertRaises(NoPiece, put_in, EXAMPLE, (0, 1, 2), piece)
 
     def test_no_lot(self):
         for thing in oracle.junk() + [0, 1, (0,), (2,), (1, 2), (0, 1, 2), (1, 1), (3,), [1]]:

@@ -201,6 +201,12 @@ class WrongThings(unittest.TestCase):
                                (is_safe, 1), (room_to_mend, 2)):
                 self.assertRaises(NoLot, call, LEAN, thing, *[None] * more)
             self.assertRaises(NoLot, room_to_mend, LEAN, (0,), thing, None)
+            self.assertRaises(NoLot, room_to_mend, LEAN, (0,), thing, (0, 1, 2))
+            self.assertRaises(NoLot, room_to_mend, LEAN, thing, (), (0, 1, 2))
+            self.assertRaises(NoLot, is_plane, LEAN, thing, (1, 0, 0))
+            self.assertRaises(NoLot, is_harm, LEAN, thing, ())
+            self.assertRaises(NoLot, is_safe, LEAN, thing, 0)
+            self.assertRaises(NoLot, harm_of, LEAN, thing, (1, 0, 0))
             self.assertIs(is_harm(LEAN, (0, 1, 2), thing), False)
 
     def test_no_number(self):

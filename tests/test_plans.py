@@ -239,7 +239,9 @@ class WrongThings(unittest.TestCase):
         for thing in oracle.no_keepings():
             for call in TAKE_A_PLAN:
                 self.assertRaises(NoKeeping, call, LEAN, thing, None)
+                self.assertRaises(NoKeeping, call, LEAN, thing, ())
             self.assertRaises(NoKeeping, is_plan, LEAN, thing, None, None)
+            self.assertRaises(NoKeeping, is_plan, LEAN, thing, (0, 1, 2), ())
             self.assertRaises(NoKeeping, is_plan, LEAN, (0, 1, 2), thing, ())
 
     def test_no_plan(self):

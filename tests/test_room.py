@@ -268,14 +268,20 @@ class WrongThings(unittest.TestCase):
     """What is raised, in which order, and what is judged."""
 
     def test_no_keeping(self):
-        told = ((least_room, 0), (plan_for, 0), (pressures, 0), (plan_within, 1), (bar, 1), (is_bar, 2),
-                (least_room_by, 2), (plan_by, 2), (bar_by, 3), (is_bar_by, 4))
+        every = (0, 1, 2)
+        told = ((least_room, ()), (plan_for, ()), (pressures, ()), (plan_within, (9,)), (bar, (9,)),
+                (is_bar, (9, ("start",))), (least_room_by, (every, ())), (plan_by, (every, ())),
+                (bar_by, (every, (), 9)), (is_bar_by, (every, (), 9, ("start",))))
         for thing in oracle.no_keepings():
             for call, more in told:
-                self.assertRaises(NoKeeping, call, LEAN, thing, None, *[None] * more)
-                self.assertRaises(NoKeeping, call, LEAN, (0, 1, 2), thing, *[None] * more)
+                self.assertRaises(NoKeeping, call, LEAN, thing, None, *[None] * len(more))
+                self.assertRaises(NoKeeping, call, LEAN, every, thing, *[None] * len(more))
+                self.assertRaises(NoKeeping, call, LEAN, thing, every, *more)
+                self.assertRaises(NoKeeping, call, LEAN, every, thing, *more)
             self.assertRaises(NoKeeping, least_of, LEAN, thing, None)
+            self.assertRaises(NoKeeping, least_of, LEAN, thing, 5)
             self.assertRaises(NoKeeping, least_staying, LEAN, thing, None, None, None)
+            self.assertRaises(NoKeeping, least_staying, LEAN, thing, 5, every, ())
 
     def test_no_number(self):
         every = (0, 1, 2)
@@ -290,9 +296,11 @@ class WrongThings(unittest.TestCase):
 
     def test_no_some(self):
         for thing in oracle.junk() + [0, (0, 1), (1, 2), (2, 1, 0), [0, 1, 2], (0, 1, 2, 3), (False, 1, 2)]:
-            self.assertRaises(NoSome, least_staying, W, (0, 2), 5, [0, 2] if thing == (1, 2) else (1, 2), None)
+            self.assertRaises(NoSome, least_staying, W, (0, 2), 5, thing, None)
+            self.assertRaises(NoSome, least_staying, W, (0, 2), 5, thing, ())
             for call, more in ((least_room_by, ()), (plan_by, ()), (bar_by, (None,)), (is_bar_by, (None, None))):
                 self.assertRaises(NoSome, call, W, (0, 2), (1, 2), thing, None, *more)
+                self.assertRaises(NoSome, call, W, (0, 2), (1, 2), thing, (), *more)
         self.assertEqual(least_staying(W, (0, 2), 5, (0, 2), ()), (0, 2))
 
     def test_no_stay(self):
