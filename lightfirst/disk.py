@@ -67,7 +67,8 @@ class Disk:
 
     def calm(self):
         """Lets all that waits reach its cell, cell by cell."""
-        for cell in sorted(self.queues):
+        cells = sorted(self.queues)
+        for cell in cells:
             while cell in self.queues:
                 self.reach(cell)
 
