@@ -9,6 +9,7 @@ from lightfirst.basics import is_integer, is_lot, is_within
 from lightfirst.contents import web_of
 from lightfirst.disk import Disk
 from lightfirst.errors import KeepError, NoKeeping
+from lightfirst.house import House
 from lightfirst.store import Store
 from lightfirst.webs import Web
 from tests import oracle
@@ -28,6 +29,10 @@ FUNCTIONS = {
                "lightest_safe": 2, "room_to_mend": 4, "powers": 4},
     "contents": {"content": 3, "parts": 2, "contents": 3, "row_of": 3, "read_row": 3, "web_of": 3, "fits": 2,
                  "agree": 2, "is_spoilt": 3, "spoilt": 2},
+    "cuts": {"is_cut": 2, "cut": 3, "cut_row": 2, "all_cuts": 1},
+    "leasts": {"in_every": 2, "in_some": 2, "may_grow": 3, "must_shrink": 3, "lightest_with": 3, "leasts": 2,
+               "exchanges": 3},
+    "floors": {"floor": 3, "is_together": 4, "floors": 2, "sill": 2},
     "laid": {"whole": 3, "half": 3, "cells_with": 2, "lying_contents": 3, "meaning": 3, "laid": 4},
 }
 # The classes, with how many arguments each of their methods takes beside the object.
@@ -37,6 +42,8 @@ METHODS = {
                       "many_cells": 0, "used": 0, "reached": 0, "waiting": 0, "copy": 0}},
     "store": {"Store": {"__init__": 3, "whole": 0, "room": 0, "left": 0, "row": 1, "rows": 0, "turn": 1, "run": 0,
                         "step": 0, "goal": 0, "disk": 0}},
+    "house": {"House": {"__init__": 4, "row": 1, "whole": 0, "used": 0, "least_for": 1, "turn": 1, "lighten": 0,
+                        "strengthen": 1, "work": 1, "goal": 0, "lose": 1, "lost": 0, "power": 1, "rise": 0, "book": 0}},
 }
 
 # Arguments that are right, behind the web where a function takes one.
@@ -62,11 +69,14 @@ RIGHT = {
     "row_of": (2, (1, 6)), "read_row": ({0: (1, 2)}, 0), "web_of": (5, ((1, 2), (1, 3)), SUMS),
     "fits": (((1, 2), (1, 3)),), "agree": ({0: (1, 2)},), "spoilt": ({0: (1, 2), 1: (1, 3), 2: (0, 2)},),
     "is_spoilt": ({0: (1, 2), 1: (1, 3), 2: (0, 2)}, ((0, 1, 2), 1)),
+    "is_cut": ((0, 1),), "cut": ((0, 2), 0), "cut_row": ((0, 1),), "all_cuts": (),
+    "may_grow": ((0, 1, 2), 2), "must_shrink": ((0, 1, 2), 1), "lightest_with": ((0, 1, 2), (1,)),
+    "exchanges": ((0, 2), (1, 2)), "floor": ((0, 1), 30), "is_together": ((0, 1), (0, 2), 30), "floors": (30,),
     "powers": (5, 2, 4, 9), "plane": ((0,),), "safety": ((0, 1, 2),), "harms": ((0, 1, 2),),
 }
 TAKE_NO_WEB = ("turned_back", "powers", "web_of")
 # What these judge last is a number, for which an error is named.
-RAISE_FOR_THEIR_LAST = ("is_safe",)
+RAISE_FOR_THEIR_LAST = ("is_safe", "is_together")
 
 
 class Interface(unittest.TestCase):
@@ -146,6 +156,11 @@ class Judging(unittest.TestCase):
         for store in self.stores():
             yield store.row, (0,), 0
             yield store.turn, ((0, 2),), 0
+        yield House, (web, ((1, 2), (1, 3)), (0, 2), 8), 1
+        house = House(web, ((1, 2), (1, 3)), (0, 2), 8)
+        for call, told in ((house.row, (0,)), (house.least_for, ((0, 1),)), (house.turn, ((0, 1, 2),)),
+                           (house.strengthen, (1,)), (house.work, (100,)), (house.power, (None,)), (house.lose, (1,))):
+            yield call, told, 0
         yield Disk, (8,), 0
         for call, told in ((disk.read, (7,)), (disk.lying, (7,)), (disk.power, (None,)), (disk.write, (7, (1, 2, 3))),
                            (disk.reach, (7,)), (disk.write, (7, ()))):
