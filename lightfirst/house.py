@@ -71,7 +71,6 @@ class House:
 
     def lighten(self):
         """Lets the house be turned into the lightest of all keepings."""
-        self.check_stands()
         self.turn(lightest(self.web, every_piece(self.web)))
 
     def strengthen(self, k):

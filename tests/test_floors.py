@@ -109,6 +109,7 @@ class Edges(unittest.TestCase):
                 self.assertEqual(floor(web, lot, GREATEST), lightest)
                 self.assertIs(is_together(web, lot, lightest, GREATEST), True)
                 self.assertRaises(NoRoom, floor, web, lot, 0)
+                self.assertRaises(NoRoom, is_together, web, lot, lot, 0)
 
     def test_a_keepings_size_and_one_less(self):
         for lot in oracle.keepings(V):

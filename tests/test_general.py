@@ -7,10 +7,12 @@ import unittest
 from lightfirst import laid
 from lightfirst.basics import is_integer, is_lot, is_within
 from lightfirst.contents import web_of
+from lightfirst.desk import Desk, tale
 from lightfirst.disk import Disk
 from lightfirst.errors import KeepError, NoKeeping
 from lightfirst.house import House
 from lightfirst.store import Store
+from lightfirst.strangers import least_needed, led, mover_for
 from lightfirst.webs import Web
 from tests import oracle
 
@@ -33,6 +35,10 @@ FUNCTIONS = {
     "leasts": {"in_every": 2, "in_some": 2, "may_grow": 3, "must_shrink": 3, "lightest_with": 3, "leasts": 2,
                "exchanges": 3},
     "floors": {"floor": 3, "is_together": 4, "floors": 2, "sill": 2},
+    "tours": {"helpers": 3, "weighers": 3, "tour_room": 2, "tour_plan": 2, "best_order": 3},
+    "strangers": {"led": 6, "mover_for": 3, "least_needed": 5},
+    "texts": {"web_text": 1, "plan_text": 1, "read_web": 1, "read_plan": 1},
+    "desk": {"tale": 5},
     "laid": {"whole": 3, "half": 3, "cells_with": 2, "lying_contents": 3, "meaning": 3, "laid": 4},
 }
 # The classes, with how many arguments each of their methods takes beside the object.
@@ -44,6 +50,7 @@ METHODS = {
                         "step": 0, "goal": 0, "disk": 0}},
     "house": {"House": {"__init__": 4, "row": 1, "whole": 0, "used": 0, "least_for": 1, "turn": 1, "lighten": 0,
                         "strengthen": 1, "work": 1, "goal": 0, "lose": 1, "lost": 0, "power": 1, "rise": 0, "book": 0}},
+    "desk": {"Desk": {"__init__": 4, "tell": 1}},
 }
 
 # Arguments that are right, behind the web where a function takes one.
@@ -72,9 +79,14 @@ RIGHT = {
     "is_cut": ((0, 1),), "cut": ((0, 2), 0), "cut_row": ((0, 1),), "all_cuts": (),
     "may_grow": ((0, 1, 2), 2), "must_shrink": ((0, 1, 2), 1), "lightest_with": ((0, 1, 2), (1,)),
     "exchanges": ((0, 2), (1, 2)), "floor": ((0, 1), 30), "is_together": ((0, 1), (0, 2), 30), "floors": (30,),
+    "helpers": ((0, 2), (1, 2)), "weighers": ((0, 2), (1, 2)), "tour_room": (((0, 2), (1, 2)),),
+    "tour_plan": (((0, 2), (1, 2)),), "best_order": ((0, 2), ((1, 2), (0, 1))),
+    "web_text": (), "plan_text": (PLAN,), "read_web": ("web 5 2\npiece 3 1,4\n",), "read_plan": ("write 3\n",),
     "powers": (5, 2, 4, 9), "plane": ((0,),), "safety": ((0, 1, 2),), "harms": ((0, 1, 2),),
 }
-TAKE_NO_WEB = ("turned_back", "powers", "web_of")
+TAKE_NO_WEB = ("turned_back", "powers", "web_of", "plan_text", "read_web", "read_plan")
+# These take disks, functions, or rows that fit a web, or return a function.
+APART = ("whole", "half", "cells_with", "lying_contents", "meaning", "laid", "led", "mover_for", "least_needed", "tale")
 # What these judge last is a number, for which an error is named.
 RAISE_FOR_THEIR_LAST = ("is_safe", "is_together")
 
@@ -135,7 +147,7 @@ class Judging(unittest.TestCase):
         for name, functions in FUNCTIONS.items():
             module = importlib.import_module("lightfirst." + name)
             for told, many in functions.items():
-                if name == "laid":
+                if told in APART:
                     continue
                 right = RIGHT.get(told, ((0, 1),))
                 if name != "spans" and told not in TAKE_NO_WEB:
@@ -166,6 +178,20 @@ class Judging(unittest.TestCase):
                            (disk.reach, (7,)), (disk.write, (7, ()))):
             yield call, told, 0
 
+    def calls_with_functions(self):
+        """Those that take a mover, or lines for a desk."""
+        web = Web(5, 2, (((1, 0), 10), ((0, 1), 10), ((1, 4), 3)))
+        mover = mover_for(web, (0, 2), (1, 2))
+        yield lambda *told: led(web, *told, mover), ((0, 2), (1, 2), 23, 400), 0
+        yield lambda *told: least_needed(web, *told[:2], mover, told[2]), ((0, 2), (1, 2), 400), 0
+        yield lambda *told: mover_for(web, *told), ((0, 2), (1, 2)), 0
+        for thing in oracle.junk():
+            yield lambda *told, thing=thing: led(web, *told, lambda view: thing), ((0, 2), (1, 2), 23, 400), 4
+        web = web_of(5, ((1, 2), (1, 3)), ((1, 0), (0, 1), (4, 1)))
+        yield lambda *told: tale(web, *told), (((1, 2), (1, 3)), (0, 2), 8, ["whole"]), 0
+        yield lambda *told: Desk(web, *told), (((1, 2), (1, 3)), (0, 2), 8), 0
+        yield Desk(web, ((1, 2), (1, 3)), (0, 2), 8).tell, ("whole",), 0
+
     def stores(self):
         """A store that was opened."""
         web = web_of(5, ((1, 2), (1, 3)), ((1, 0), (0, 1), (4, 1)))
@@ -179,8 +205,11 @@ class Judging(unittest.TestCase):
         return deep + great + [(thing,) for thing in deep] + [(thing, 1) for thing in deep] + [((deep[1][0], 1),)]
 
     def test_no_other_error(self):
+        web = web_of(5, ((1, 2), (1, 3)), ((1, 0), (0, 1), (4, 1)))
         things = oracle.junk() + self.greatest_things() + [NoKeeping(), next(self.stores())]
-        for call, right, first in list(self.calls()) + list(self.calls_with_disks()):
+        things += [make(web, ((1, 2), (1, 3)), (0, 2), 8) for make in (House, Desk)]
+        calls = list(self.calls()) + list(self.calls_with_disks()) + list(self.calls_with_functions())
+        for call, right, first in calls:
             call(*right)
             for at in range(first, len(right)):
                 for thing in things:

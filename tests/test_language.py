@@ -13,7 +13,7 @@ BUILTINS = set("""len range enumerate zip min max sum abs sorted reversed int st
 PYTHONS_NAMES = set(vars(__import__("builtins")))
 METHODS = set("""append clear copy count endswith extend find get index insert isalnum isalpha isdigit islower isspace
     isupper items join keys ljust lower lstrip partition pop remove replace reverse rfind rjust rpartition rsplit
-    rstrip setdefault split splitlines startswith strip update upper values zfill bit_length""".split())
+    rstrip setdefault split splitlines startswith strip update upper values zfill bit_length isascii""".split())
 LIBRARY = {"math": {"gcd", "lcm", "isqrt", "comb", "perm", "factorial"},
            "itertools": {"product", "combinations", "permutations"},
            "heapq": {"heappush", "heappop", "heapify", "heapreplace", "heappushpop"}}
@@ -23,7 +23,7 @@ NO_NAMES = NEVER | set("""attrgetter breakpoint builtins compile copyright credi
 NO_WORDS = re.compile(r"\b(type|typing|typing_extensions|enum|Enum|IntEnum|StrEnum|Flag|IntFlag|Generic|Protocol|ABC|"
                       r"ABCMeta|namedtuple|NamedTuple|TypedDict|TYPE_CHECKING|abstractmethod|_wall|_WallAttr)\b")
 NO_NODES = (ast.Global, ast.AsyncFunctionDef, ast.AsyncFor, ast.AsyncWith, ast.Await, ast.Div, ast.GeneratorExp,
-            ast.Yield, ast.YieldFrom, ast.Set, ast.SetComp, ast.Try, ast.With, ast.Import, ast.AnnAssign)
+            ast.Yield, ast.YieldFrom, ast.Set, ast.SetComp, ast.With, ast.Import, ast.AnnAssign)
 DUNDERS = {"__init__", "__eq__", "__repr__", "__str__", "__len__"}
 
 
@@ -79,8 +79,39 @@ class Language(unittest.TestCase):
             for node in tree.body[1:]:
                 self.assertIsInstance(node, (ast.ImportFrom, ast.FunctionDef, ast.ClassDef, ast.Assign), path)
                 if isinstance(node, ast.Assign):
-                    ast.literal_eval(node.value)
+                    self.check_plain(node, tree)
             self.assertIsNotNone(ast.get_docstring(tree))
+
+    def check_plain(self, node, tree):
+        """A value at module level is plain, but for functions above it that are the values of a dict."""
+        above = {item.name for item in tree.body if isinstance(item, ast.FunctionDef) and item.lineno < node.lineno}
+        if isinstance(node.value, ast.Dict):
+            for key, value in zip(node.value.keys, node.value.values):
+                ast.literal_eval(key)
+                if not isinstance(value, ast.Name):
+                    self.assertNotIsInstance(ast.literal_eval(value), (list, dict))
+                else:
+                    self.assertIn(value.id, above)
+        else:
+            ast.literal_eval(node.value)
+
+    def test_only_own_errors_are_caught(self):
+        own = {item.name for item in ast.parse((PACKAGE / "errors.py").read_text()).body if hasattr(item, "name")}
+        for path, tree in trees():
+            for node in ast.walk(tree):
+                if isinstance(node, ast.Try):
+                    self.assertEqual(node.finalbody, [])
+                    for handler in node.handlers:
+                        self.assertIn(handler.type.id, own, path)
+
+    def test_no_files_import_from_each_other(self):
+        needs = {path.stem: [node.module.split(".")[1] for node in ast.walk(tree)
+                             if isinstance(node, ast.ImportFrom) and node.module.startswith("lightfirst.")]
+                 for path, tree in trees()}
+        while needs:
+            free = [name for name in needs if not set(needs[name]) & set(needs)]
+            self.assertNotEqual(free, [])
+            needs = {name: needs[name] for name in needs if name not in free}
 
     def test_imports(self):
         for path, tree in trees():
@@ -131,7 +162,7 @@ class Language(unittest.TestCase):
         for path, tree in trees():
             for node in ast.walk(tree):
                 if isinstance(node, ast.Attribute) and isinstance(node.ctx, ast.Load):
-                    self.assertIn(node.attr, stored | METHODS | own, path)
+                    self.assertIn(node.attr, stored | METHODS | own | {"__class__", "__name__"}, path)
 
     def test_words(self):
         for path, tree in trees():
