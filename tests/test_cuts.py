@@ -6,7 +6,6 @@ from math import comb
 
 from lightfirst.cuts import all_cuts, cut, cut_row, is_cut
 from lightfirst.errors import NoCut, NoKeeping, NoLot, NoPiece, NotAlone, TooMany
-from lightfirst.rings import all_rings, ring, ring_values
 from lightfirst.webs import Web
 from tests import oracle
 
@@ -166,14 +165,6 @@ class WrongThings(unittest.TestCase):
         self.assertIs(type(all_cuts(EXAMPLE)), list)
         for found in (cut(EXAMPLE, (0, 2), 0), cut_row(EXAMPLE, (0, 1)), all_cuts(EXAMPLE)[0]):
             self.assertEqual((type(found), {type(value) for value in found}), (tuple, {int}))
-
-
-class Examples(unittest.TestCase):
-
-    def test_e03(self):
-        w = EXAMPLE
-        self.assertEqual((ring(w, (0, 2), 1), ring_values(w, (0, 1, 2)), cut(w, (0, 2), 0), cut_row(w, (0, 1)),
-                          all_rings(w)), ((0, 1, 2), (1, 4, 4), (0, 1), (1, 1), [(0, 1, 2)]))
 
 
 if __name__ == "__main__":

@@ -130,11 +130,13 @@ class Telling(unittest.TestCase):
         self.assertEqual(found[12:], ["start", "none", "0 1", "ok", "ok"])
 
     def test_answers(self):
-        lines = ("goal", "lost", "whole", "used", "row 0", "row 1", "row 2", "least 1,2", "least 0,1,2", "plan 0,2", "bar 0,2 4",
+        lines = ("goal", "lost", "whole", "used", "row 0", "row 1", "row 2", "least 1,2", "least 0,1,2", "plan 0,2",
+                 "bar 0,2 4",
                  "bar 0,2 5", "turn 1,2", "goal", "work 0", "work 2", "whole", "used", "work 100", "whole", "used",
                  "lose 1", "lost", "whole", "row 0", "used", "lost", "rise")
         self.assertEqual(tale(W, R, (0, 2), 8, lines), [
-            "none", "none", "0 2", "5", "1 2", "1 3", "(NoVersion)", "8", "8", "none", "start", "none", "ok", "1 2", "8", "6",
+            "none", "none", "0 2", "5", "1 2", "1 3", "(NoVersion)", "8", "8", "none", "start", "none", "ok", "1 2",
+            "8", "6",
             "0 2", "5", "0", "1 2", "5", "0 1", "1", "2", "(Broken)", "2", "1", "(Broken)"])
 
     def test_steps_and_bars(self):
@@ -178,7 +180,8 @@ class Telling(unittest.TestCase):
                     end = told if told.startswith("(") else "right"
                     seen[line.split(" ")[0], end] = seen.get((line.split(" ")[0], end), 0) + 1
         for at in (("work", "(Stopped)"), ("turn", "(NoRoom)"), ("turn", "(NoKeeping)"), ("lose", "(NoPiece)"),
-                   ("row", "(NoVersion)"), ("strengthen", "(NoneSafe)"), ("strengthen", "(NoNumber)"), ("plan", "right"),
+                   ("row", "(NoVersion)"), ("strengthen", "(NoneSafe)"), ("strengthen", "(NoNumber)"),
+                   ("plan", "right"),
                    ("rise", "(Broken)"), ("bar", "right"), ("power", "(NoNumber)"), ("work", "(NoNumber)"),
                    ("turn", "(NoSaying)")):
             self.assertGreater(seen.get(at, 0), 0, at)
@@ -211,12 +214,18 @@ class Forms(unittest.TestCase):
 
     def test_lines_of_another_form(self):
         desk = Desk(W, R, (0, 2), 8)
-        for line in ("", " ", "\n", "whole\n", "\nwhole", " whole", "whole ", "whole 1", "Whole", "WHOLE", "work", "work ",
-                     "work 1 2", "work  1", "work -", "work -1", "work +1", "work 01", "work 00", "work 1234567890", "work 1,2",
-                     "work one", "lose -", "row -", "strengthen -", "power", "power -1", "power --", "power - -", "power 1,2",
-                     "turn", "turn ", "turn 0 2", "turn 0,", "turn ,0", "turn 0,,2", "turn ,", "turn --", "turn -,0", "turn 0,-",
-                     "turn 00", "turn 0,01", "turn (0,2)", "turn 0, 2", "turn 1234567890", "bar 0,2", "bar 7", "bar 0,2 7 8",
-                     "bar 0,2 -", "bar 7 0,2", "bar  0,2 7", "lighten 0", "rise 0", "goal -", "used -", "lost 0", "turns 0,2",
+        for line in ("", " ", "\n", "whole\n", "\nwhole", " whole", "whole ", "whole 1", "Whole", "WHOLE", "work",
+                     "work ",
+                     "work 1 2", "work  1", "work -", "work -1", "work +1", "work 01", "work 00", "work 1234567890",
+                     "work 1,2",
+                     "work one", "lose -", "row -", "strengthen -", "power", "power -1", "power --", "power - -",
+                     "power 1,2",
+                     "turn", "turn ", "turn 0 2", "turn 0,", "turn ,0", "turn 0,,2", "turn ,", "turn --", "turn -,0",
+                     "turn 0,-",
+                     "turn 00", "turn 0,01", "turn (0,2)", "turn 0, 2", "turn 1234567890", "bar 0,2", "bar 7",
+                     "bar 0,2 7 8",
+                     "bar 0,2 -", "bar 7 0,2", "bar  0,2 7", "lighten 0", "rise 0", "goal -", "used -", "lost 0",
+                     "turns 0,2",
                      "book", "reset", "none", "ok", "0", "-", "whole whole", "whole\nused"):
             self.assertIsNone(words_of(line), line)
             self.assertRaises(NoSaying, desk.tell, line)
@@ -267,7 +276,8 @@ class ErrorsOfTheDesk(unittest.TestCase):
         with self.assertRaises(NoRoom) as caught:
             desk.tell("turn 0,1,2")
         self.assertEqual(caught.exception.least, 8)
-        self.assertEqual(tale(W, R, (0, 2), 7, ("turn 0,1,2", "strengthen 1", "goal")), ["(NoRoom)", "(NoRoom)", "none"])
+        self.assertEqual(tale(W, R, (0, 2), 7, ("turn 0,1,2", "strengthen 1", "goal")),
+                         ["(NoRoom)", "(NoRoom)", "none"])
 
     def test_stopped(self):
         lines = ("power 1", "turn 0,1,2", "work 100", "rise", "goal", "whole", "work 100", "whole", "row 0")
@@ -281,7 +291,8 @@ class ErrorsOfTheDesk(unittest.TestCase):
 
     def test_broken(self):
         lines = ("lose 0", "whole", "used", "lost", "lose 2", "rise", "row 0", "row 1", "turn -", "least 0", "plan 0",
-                 "bar 0 0", "goal", "lighten", "strengthen 13", "work 1000001", "power -", "power 1000001", "plan", "turn 0,")
+                 "bar 0 0", "goal", "lighten", "strengthen 13", "work 1000001", "power -", "power 1000001", "plan",
+                 "turn 0,")
         self.assertEqual(tale(W, R, (0, 2), 8, lines),
                          ["0 1", "2", "2", "0"] + ["(Broken)"] * 14 + ["(NoSaying)"] * 2)
         self.assertEqual(tale(W, R, (0, 1), 8, ("lose 1", "whole", "used")), ["1", "0", "3"])

@@ -204,11 +204,5 @@ class WrongThings(unittest.TestCase):
                                                     sill(V, (0, 2, 4)))], [tuple, list, tuple, int])
 
 
-class Examples(unittest.TestCase):
-
-    def test_e06_floor(self):
-        self.assertEqual(floor(V, (0, 2, 4), 17), (0, 4, 5))
-
-
 if __name__ == "__main__":
     unittest.main()

@@ -13,7 +13,7 @@ from lightfirst.room import least_room
 from lightfirst.webs import Web
 from tests import oracle
 from tests.hand import Hand
-from tests.test_store import WORLDS, pairs_of
+from tests.test_store import WORLDS, pairs_of, turnings
 
 R = ((1, 2), (1, 3))
 W = web_of(5, R, ((1, 0), (0, 1), (4, 1)))
@@ -171,16 +171,6 @@ class Turnings(unittest.TestCase):
 class Falls(unittest.TestCase):
     """The great fact for a house: a turning falls at every write."""
 
-    def turnings(self, share):
-        """Some of the turnings, as (web, rows, start, goal, cells)."""
-        number = 0
-        for web, rows in WORLDS:
-            for start, goal in pairs_of(web):
-                number += 1
-                if number % share == 0:
-                    for spare in (0, 1):
-                        yield web, rows, start, goal, least_room(web, start, goal) + spare
-
     def falls(self, house, many):
         """Works a house to the end, or to a fall with so much power; whether it fell."""
         house.power(many)
@@ -191,7 +181,7 @@ class Falls(unittest.TestCase):
         return False
 
     def test_ends_once(self):
-        for web, rows, start, goal, cells in self.turnings(5):
+        for web, rows, start, goal, cells in turnings(5):
             for strength in range(200):
                 house = House(web, rows, start, cells)
                 house.turn(goal)
@@ -208,7 +198,7 @@ class Falls(unittest.TestCase):
             self.assertEqual((house.whole(), house.used()), (goal, oracle.size(web, goal)))
 
     def test_ends_again_and_again(self):
-        for web, rows, start, goal, cells in self.turnings(23):
+        for web, rows, start, goal, cells in turnings(23):
             for first in (0, 1, 2, 5, 9):
                 house = House(web, rows, start, cells)
                 house.turn(goal)
@@ -263,7 +253,7 @@ class Falls(unittest.TestCase):
 
     def test_the_house_in_any_room_and_order(self):
         chance = Random(131)
-        for web, rows, start, goal, cells in self.turnings(2):
+        for web, rows, start, goal, cells in turnings(2):
             house = House(web, rows, start, cells)
             house.turn(goal)
             while house.whole() != goal or house.work(0) > 0:
@@ -501,7 +491,8 @@ class Lives(unittest.TestCase):
                         self.assertEqual(getattr(house, name)(), getattr(hand, name)())
                     end = found[0] if isinstance(found, tuple) and found and isinstance(found[0], str) else "right"
                     ends[call, end] = ends.get((call, end), 0) + 1
-        for at in (("turn", "NoRoom"), ("turn", "NoKeeping"), ("turn", "Broken"), ("work", "Stopped"), ("lose", "NoPiece"),
+        for at in (("turn", "NoRoom"), ("turn", "NoKeeping"), ("turn", "Broken"), ("work", "Stopped"),
+                   ("lose", "NoPiece"),
                    ("lose", "right"), ("rise", "right"), ("strengthen", "NoneSafe"), ("turn", "right")):
             self.assertGreater(ends.get(at, 0), 5, at)
 
@@ -580,15 +571,6 @@ class WrongThings(unittest.TestCase):
             house.goal(), house.rise(), house.used(), house.least_for((0, 1)), house.work(1), house.lost(),
             house.book(), house.book()[0], house.lose(0))],
             [type(None)] * 4 + [tuple] * 4 + [int] * 3 + [list] * 2 + [tuple] * 2)
-
-
-class Examples(unittest.TestCase):
-
-    def test_e13(self):
-        w = Web(5, 2, (((1, 0), 2), ((0, 1), 2), ((3, 1), 1)))
-        h = House(w, ((1,), (2,)), (0, 1), 6)
-        self.assertEqual((h.least_for((0, 2)), h.lighten(), h.work(100), h.whole(), h.used(), h.row(1)),
-                         (5, None, 0, (0, 2), 3, (2,)))
 
 
 if __name__ == "__main__":

@@ -7,7 +7,7 @@ from random import Random
 
 from lightfirst.errors import NoKeeping, NoLot, NoPiece, NotAlone, TooMany
 from lightfirst.leasts import exchanges, in_every, in_some, leasts, lightest_with, may_grow, must_shrink
-from lightfirst.lightest import least_size, light_paper, lightest
+from lightfirst.lightest import lightest
 from lightfirst.webs import Web
 from tests import oracle
 
@@ -206,20 +206,11 @@ class WrongThings(unittest.TestCase):
     def test_kinds_of_what_is_returned(self):
         web, lot = EXAMPLE, (0, 1, 2)
         self.assertEqual([type(found) for found in (in_every(web, lot), in_some(web, lot), lightest_with(web, lot, ()),
-                                                    leasts(web, lot), leasts(web, lot)[0], exchanges(web, (0, 1), (1, 2)),
+                                                    leasts(web, lot), leasts(web, lot)[0], exchanges(web, (0, 1),
+                                                                                                     (1, 2)),
                                                     exchanges(web, (0, 1), (1, 2))[0], may_grow(web, lot, 2),
                                                     must_shrink(web, lot, 1))],
                          [tuple, tuple, tuple, list, tuple, tuple, tuple, int, int])
-
-
-class Examples(unittest.TestCase):
-
-    def test_e04(self):
-        w = EXAMPLE
-        self.assertEqual((lightest(w, (0, 1, 2)), light_paper(w, (0, 1, 2), (0, 2)), in_every(w, (0, 1, 2)),
-                          in_some(w, (0, 1, 2)), may_grow(w, (0, 1, 2), 2), exchanges(w, (0, 2), (1, 2))),
-                         ((0, 2), {1: (0, 1, 2)}, (2,), (0, 1, 2), 7, ((1, 0),)))
-        self.assertEqual(least_size(w, (0, 1, 2)), 13)
 
 
 if __name__ == "__main__":

@@ -57,6 +57,17 @@ def pairs_of(web):
     return [(start, goal) for start in oracle.keepings(web) for goal in oracle.keepings(web)]
 
 
+def turnings(share):
+    """Some of the turnings of the webs, as (web, rows, start, goal, cells)."""
+    number = 0
+    for web, rows in WORLDS:
+        for start, goal in pairs_of(web):
+            number += 1
+            if number % share == 0:
+                for spare in (0, 1):
+                    yield web, rows, start, goal, least_room(web, start, goal) + spare
+
+
 def steps_by_words(web, rows, disk, plan):
     """The steps of a plan, by the very words, each with the number of the step of the plan."""
     held = read_of(disk)
@@ -146,18 +157,8 @@ class Turnings(unittest.TestCase):
 class Falls(unittest.TestCase):
     """A fall behind each step, whatever of what waits has reached."""
 
-    def turnings(self, share):
-        """Some of the turnings, as (web, rows, start, goal, cells)."""
-        number = 0
-        for web, rows in WORLDS:
-            for start, goal in pairs_of(web):
-                number += 1
-                if number % share == 0:
-                    for spare in (0, 1):
-                        yield web, rows, start, goal, least_room(web, start, goal) + spare
-
     def test_whatever_has_reached(self):
-        for web, rows, start, goal, cells in self.turnings(3):
+        for web, rows, start, goal, cells in turnings(3):
             disk = laid(web, rows, start, cells)
             store = Store(web, width_of(rows), disk)
             plan = plan_for(web, start, goal)
@@ -191,7 +192,7 @@ class Falls(unittest.TestCase):
 
     def test_in_unlike_orders(self):
         chance = Random(12)
-        for web, rows, start, goal, cells in self.turnings(2):
+        for web, rows, start, goal, cells in turnings(2):
             disk = laid(web, rows, start, cells)
             store = Store(web, width_of(rows), disk)
             store.turn(goal)
@@ -212,7 +213,7 @@ class Falls(unittest.TestCase):
             self.assertEqual((store.whole(), whole(web, width_of(rows), disk), store.rows()), (goal, goal, rows))
 
     def test_opened_while_something_waits(self):
-        for web, rows, start, goal, cells in self.turnings(13):
+        for web, rows, start, goal, cells in turnings(13):
             many = len(steps_by_words(web, rows, laid(web, rows, start, cells), plan_for(web, start, goal)))
             for at in range(many + 1):
                 disk = laid(web, rows, start, cells)

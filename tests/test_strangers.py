@@ -193,7 +193,8 @@ class MoversFor(unittest.TestCase):
                 if not oracle.is_keeping(web, lot):
                     continue
                 for most in (1, len(walk), len(walk) + 1, 400):
-                    fitting = [room for room in range(60) if led_by_words(web, start, lot, room, most, walk)[0] == "kept"]
+                    fitting = [room for room in range(60)
+                               if led_by_words(web, start, lot, room, most, walk)[0] == "kept"]
                     right = fitting[0] if fitting else None
                     self.assertEqual(least_needed(web, start, lot, teller(walk), most), right)
                     if right is not None:

@@ -114,9 +114,12 @@ class Webs(unittest.TestCase):
     def test_forms_of_lines(self):
         self.check_lines(read_web, (
             ("", 1), ("\n", 1), ("web 5 2", 1), ("web 5\n", 1), ("web 5 2 \n", 1), (" web 5 2\n", 1), ("web  5 2\n", 1),
-            ("web 5 2 1\n", 1), ("web 05 2\n", 1), ("web 5 00\n", 1), ("web 5 -2\n", 1), ("web 5 +2\n", 1), ("Web 5 2\n", 1),
-            ("piece 3 1\n", 1), ("web 1234567890 2\n", 1), ("web \u0665 2\n", 1), ("web 5 2\nweb 5 2\n", 2), ("web 5 2\n\n", 2),
-            ("web 5 2\npiece 3 1,0", 2), ("web 5 2\npiece 3 \n", 2), ("web 5 2\npiece 3\n", 2), ("web 5 2\npiece 3 ,\n", 2),
+            ("web 5 2 1\n", 1), ("web 05 2\n", 1), ("web 5 00\n", 1), ("web 5 -2\n", 1), ("web 5 +2\n", 1),
+            ("Web 5 2\n", 1),
+            ("piece 3 1\n", 1), ("web 1234567890 2\n", 1), ("web \u0665 2\n", 1), ("web 5 2\nweb 5 2\n", 2),
+            ("web 5 2\n\n", 2),
+            ("web 5 2\npiece 3 1,0", 2), ("web 5 2\npiece 3 \n", 2), ("web 5 2\npiece 3\n", 2),
+            ("web 5 2\npiece 3 ,\n", 2),
             ("web 5 2\npiece 3 1,\n", 2), ("web 5 2\npiece 3 ,1\n", 2), ("web 5 2\npiece 3 1,,0\n", 2),
             ("web 5 2\npiece 3 1, 0\n", 2), ("web 5 2\npiece 3 1 0\n", 2), ("web 5 2\npiece 3 01,0\n", 2),
             ("web 5 2\npiece 3 1,0\nx", 3), ("web 5 2\npiece 3 1,0\n ", 3), ("web 5 2\npiece 1000000000 1,0\n", 2),
@@ -186,7 +189,8 @@ class Plans(unittest.TestCase):
 
     def test_forms_of_lines(self):
         for text, line in (("write 1", 1), ("x", 1), ("\n", 1), ("write\n", 1), ("write 01\n", 1), ("write -1\n", 1),
-                           ("Write 1\n", 1), ("write 1 \n", 1), ("write  1\n", 1), ("write 1\n\n", 2), ("write 1\ndrop", 2),
+                           ("Write 1\n", 1), ("write 1 \n", 1), ("write  1\n", 1), ("write 1\n\n", 2),
+                           ("write 1\ndrop", 2),
                            ("write 1\ndrop 1\n ", 3), ("write 1234567890\n", 1), ("write 40\ndrop 1,2\n", 2),
                            ("drop +1\nx", 1), ("write 1\ndrop 1\nleave 1\nwrite", 3)):
             with self.assertRaises(BadText, msg=text) as caught:
@@ -207,7 +211,8 @@ class Plans(unittest.TestCase):
         self.assertRaises(BadPlan, plan_text, (("write", 1),) * 2001)
 
     def test_what_is_no_plan(self):
-        for thing in oracle.junk() + [0, list(PLAN), (("write", 40),), (("write", -1),), (("write", True),), ("write", 1),
+        for thing in oracle.junk() + [0, list(PLAN), (("write", 40),), (("write", -1),), (("write", True),),
+                                      ("write", 1),
                                       (["write", 1],), (("write", 1, 1),), (("Drop", 1),), PLAN + (None,), PLAN_TEXT]:
             self.assertRaises(BadPlan, plan_text, thing)
             self.assertRaises(BadPlan, turned_back, thing)
